@@ -1,0 +1,1 @@
+"""Strokegrow: figures drawn by words that grow."""
