@@ -74,10 +74,6 @@ class Refusals(unittest.TestCase):
             self.assertEqual(getattr(one, value), samples[0], name)
             self.assertEqual(getattr(other, value), samples[1], name)
 
-    def test_a_place_of_very_many_figures(self):
-        place = 10 ** 6000
-        self.assertEqual(errors.NoPlace(place).place, place)
-
 
 if __name__ == "__main__":
     unittest.main()
