@@ -97,6 +97,38 @@ class Statements(unittest.TestCase):
             self.assertTrue(node.module.startswith("strokegrow."), (name, node.lineno))
             self.assertNotIn("*", [alias.name for alias in node.names])
 
+    def test_names_are_drawn_from_the_file_that_defines_them(self):
+        for name, node in nodes(ast.ImportFrom):
+            drawn = ast.parse((PACKAGE / (node.module.split(".")[1] + ".py")).read_text(encoding="utf-8"))
+            defined = [part.name for part in drawn.body if isinstance(part, (ast.FunctionDef, ast.ClassDef))]
+            defined += [part.targets[0].id for part in drawn.body if isinstance(part, ast.Assign)]
+            for alias in node.names:
+                self.assertIn(alias.name, defined, (name, node.lineno))
+                self.assertIsNone(alias.asname, (name, node.lineno))
+
+    def test_no_files_draw_from_one_another(self):
+        drawn = {name: set() for name, text, tree in sources()}
+        for name, node in nodes(ast.ImportFrom):
+            drawn[name].add(node.module.split(".")[1] + ".py")
+        while drawn:
+            free = [name for name in drawn if not drawn[name] & set(drawn)]
+            self.assertTrue(free, drawn)
+            for name in free:
+                drawn.pop(name)
+
+    def test_powers_and_shifts(self):
+        for name, node in nodes(ast.BinOp):
+            if isinstance(node.op, ast.Pow):
+                self.assertIsInstance(node.right, ast.Constant, (name, node.lineno))
+
+    def test_walked_at_once(self):
+        for name, node in nodes(ast.Assign):
+            if isinstance(node.value, ast.Call):
+                called = getattr(node.value.func, "id", getattr(node.value.func, "attr", ""))
+                kept = ("zip", "enumerate", "reversed", "range", "items", "keys", "values", "set", "frozenset")
+                self.assertNotIn(called, kept, (name, node.lineno))
+            self.assertNotIsInstance(node.value, ast.Set, (name, node.lineno))
+
     def test_is_beside_plain_values_alone(self):
         for name, node in nodes(ast.Compare):
             for operator, right in zip(node.ops, node.comparators):
@@ -123,6 +155,8 @@ class DefsAndNames(unittest.TestCase):
             self.assertIsNone(node.args.vararg, where)
             self.assertIsNone(node.args.kwarg, where)
             self.assertEqual(node.args.kwonlyargs + node.args.posonlyargs, [], where)
+            for default in node.args.defaults:
+                self.assertIsInstance(default, ast.Constant, where)
             self.assertTrue(node.name in METHODS_WITH_TWO or not node.name.startswith("_"), where)
 
     def test_classes(self):
@@ -146,6 +180,30 @@ class DefsAndNames(unittest.TestCase):
             self.assertNotIn(node.arg, dir(builtins), (name, node.lineno))
             self.assertFalse(node.arg.startswith("_"), (name, node.lineno))
             self.assertIsNone(node.annotation, (name, node.lineno))
+
+    def test_locals_are_called_like_nothing_of_the_file(self):
+        for name, text, tree in sources():
+            taken = {part.name for part in tree.body if isinstance(part, ast.ClassDef)}
+            for node in ast.walk(tree):
+                if isinstance(node, ast.ImportFrom):
+                    taken |= {alias.name for alias in node.names}
+            for node in ast.walk(tree):
+                if isinstance(node, ast.Name) and isinstance(node.ctx, ast.Store):
+                    self.assertNotIn(node.id, taken, (name, node.lineno))
+                if isinstance(node, ast.arg):
+                    self.assertNotIn(node.arg, taken, (name, node.lineno))
+
+    def test_each_name_once_at_the_top(self):
+        for name, text, tree in sources():
+            bound = []
+            for node in tree.body:
+                if isinstance(node, ast.ImportFrom):
+                    bound += [alias.name for alias in node.names]
+                elif isinstance(node, ast.Assign):
+                    bound.append(node.targets[0].id)
+                elif isinstance(node, (ast.FunctionDef, ast.ClassDef)):
+                    bound.append(node.name)
+            self.assertEqual(sorted(bound), sorted(set(bound)), name)
 
     def test_methods_and_values(self):
         methods = {part.name for name, node in nodes(ast.ClassDef) for part in node.body if hasattr(part, "name")}
